@@ -1,0 +1,1 @@
+"""Coldcrates: a cold store whose crates were moved."""

@@ -1,0 +1,17 @@
+"""What numbers and words are."""
+
+LETTERS = "abcdefghijklmnopqrstuvwxyz"
+LONGEST_WORD = 8
+
+
+def is_number(value, low, high):
+    """Tell whether a value is an integer from low to high."""
+    # Python counts True and False as integers, the document does not.
+    return isinstance(value, int) and not isinstance(value, bool) and low <= value <= high
+
+
+def is_word(value):
+    """Tell whether a value is a word of one to eight letters a to z."""
+    if not isinstance(value, str) or not 1 <= len(value) <= LONGEST_WORD:
+        return False
+    return all([letter in LETTERS for letter in value])
