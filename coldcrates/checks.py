@@ -1,5 +1,7 @@
 """What numbers and words are."""
 
+from coldcrates.errors import InvalidNumber
+
 LETTERS = "abcdefghijklmnopqrstuvwxyz"
 LONGEST_WORD = 8
 
@@ -8,6 +10,12 @@ def is_number(value, low, high):
     """Tell whether a value is an integer from low to high."""
     # Python counts True and False as integers, the document does not.
     return isinstance(value, int) and not isinstance(value, bool) and low <= value <= high
+
+
+def check_number(value, low, high):
+    """Raise InvalidNumber if a value is no integer from low to high."""
+    if not is_number(value, low, high):
+        raise InvalidNumber(f"this is no number from {low} to {high}")
 
 
 def is_word(value):

@@ -2,6 +2,7 @@
 
 from math import gcd
 
+from coldcrates.choices import length_and_items
 from coldcrates.deeds import is_deed, outcomes
 from coldcrates.errors import InvalidLog, NoLayout
 from coldcrates.stores import all_layouts, check_crate, check_door, contents, has_door, in_order
@@ -186,8 +187,3 @@ def wrong_behind(store, wrong, deed):
 def least_wrong(tuples):
     """Return the shortest of some tuples, of several the first one in tuple order, None if there is none."""
     return min(tuples, key=length_and_items, default=None)
-
-
-def length_and_items(indexes):
-    """Return a tuple by which tuples are ordered, shorter ones first."""
-    return (len(indexes), indexes)

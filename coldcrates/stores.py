@@ -168,6 +168,11 @@ def check_door(store, door):
         raise UnknownDoor("the store has no such door")
 
 
+def warmth_of(store, doors):
+    """Return the sum of the warmth of some doors."""
+    return sum([store.doors[door][0] for door in doors])
+
+
 def place_of(store, layout, name):
     """Return the place in which a crate lies."""
     check_layout(store, layout)

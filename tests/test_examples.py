@@ -44,6 +44,46 @@ raises InvalidDeed()
 >>> now(Store(((5, 2),), ("jam",)), [("move", "jam"), ("open", 0, ("?",))])
 raises InvalidLog(index=1)
 """,
+    """
+>>> from coldcrates.finding import best_search, doors_to_know, least_mean, least_to_know, least_warmth, next_door, search
+>>> from coldcrates.stores import Store
+>>> store = Store(((5, 2), (3, 1)), ("jam", "kiwi"))
+>>> told = [search(store, ("jam", None, "kiwi"), "kiwi", (0, 1)), best_search(store, [], "kiwi"), least_warmth(store, [], "kiwi")]
+>>> told + [least_mean(store, [], "kiwi"), least_to_know(store, []), doors_to_know(store, []), next_door(store, [])]
+[8, (8, (0, 1)), 8, (6, 1), 5, (5, (0,)), 0]
+""",
+    """
+>>> from coldcrates.stores import Store
+>>> from coldcrates.taking import is_sorted, least_sorting, least_steps, takings
+>>> store, layout = Store(((5, 2), (3, 2)), ("fig", "jam", "kiwi")), ("jam", "fig", "kiwi", None)
+>>> told = [takings(store, layout, ("fig", "jam", "kiwi"), (("jam", "kiwi"), ("kiwi", "fig")))]
+>>> told.extend([takings(store, layout, ("kiwi", "jam", "fig"), ()), is_sorted(store, layout)])
+>>> told + [least_steps(store, layout, ("fig", "jam", "kiwi", None)), least_sorting(store, layout)]
+[(13, ('jam', 'kiwi', 'fig')), (8, ('fig', 'jam', 'kiwi')), False, (21, [('fig', 3), ('jam', 1), ('fig', 0)]), (11, [('kiwi', 3), ('jam', 2)], (None, 'fig', 'jam', 'kiwi'))]
+""",
+    """
+>>> from coldcrates.hands import deeds_between, least_habits, who_could
+>>> from coldcrates.stores import Store
+>>> store, one = Store(((5, 2), (3, 2)), ("fig", "jam", "kiwi")), ("jam", "fig", "kiwi", None)
+>>> other, hands = ("fig", "jam", "kiwi", None), {"ann": ("move",), "bob": ("shuffle",)}
+>>> [deeds_between(store, ("swap",), one, other, 2), who_could(store, hands, one, other, 1), least_habits(store, one, other, 1)]
+[1, ['bob'], ('shuffle',)]
+""",
+    """
+>>> from coldcrates.hours import best_openings, first_thaw, hours_for, warmths
+>>> from coldcrates.stores import Store
+>>> store = Store(((5, 2), (3, 1)), ("fig", "plum"))
+>>> told = [warmths(store, 2, (0, None), 3), warmths(store, 2, (0, None), 10 ** 18), first_thaw(store, 2, (0, None), 7)]
+>>> told + [hours_for(store, 2, 6, (0, 0, 1)), best_openings(store, 2, 6, (0, 0, 1))]
+[(4, 0), (500000000000000000, 0), (6, 0), 4, (3, (0, 1, 0))]
+""",
+    """
+>>> from coldcrates.hours import warmths
+>>> from coldcrates.stores import Store
+>>> store = Store(((5, 2), (3, 1)), ("fig", "plum"))
+>>> warmths(store, 1, (0, 2), 1)
+raises InvalidDay(index=1)
+""",
 ]
 
 

@@ -10,6 +10,10 @@ INTERFACE = {
     "stores": ["Store", "layouts", "layout_count", "is_layout", "place_of", "behind"],
     "deeds": ["after"],
     "logs": ["now", "first", "stories", "could_lie", "surely_lies", "share", "first_wrong", "fewest_wrong"],
+    "finding": ["search", "best_search", "least_warmth", "least_mean", "least_to_know", "doors_to_know", "next_door"],
+    "taking": ["takings", "least_steps", "is_sorted", "least_sorting"],
+    "hands": ["deeds_between", "who_could", "least_habits"],
+    "hours": ["warmths", "first_thaw", "hours_for", "best_openings"],
 }
 
 
