@@ -175,7 +175,8 @@ class FirstThawTest(unittest.TestCase):
             for limit in [0] + [some + by for some in heights[:8] + heights[-3:] for by in (-1, 0, 1)]:
                 found = [(at, door) for at, (door, high, _) in enumerate(told) if high is not None and high > limit]
                 if found:
-                    self.assertEqual(first_thaw(store, cooling, day, limit), found[0], (store.doors, cooling, day, limit))
+                    thaw = first_thaw(store, cooling, day, limit)
+                    self.assertEqual(thaw, found[0], (store.doors, cooling, day, limit))
 
     def test_never(self):
         rng = random.Random(4)
