@@ -48,8 +48,7 @@ class Store:
 
     def door_of(self, place):
         """Return the door of a place."""
-        if not is_number(place, 0, self._size - 1):
-            raise UnknownPlace("the store has no such place")
+        check_place(self, place)
         door = 0
         while place not in self._places[door]:
             door += 1
@@ -157,6 +156,12 @@ def check_crate(store, name):
         raise UnknownCrate("the store has no such crate")
 
 
+def check_place(store, place):
+    """Raise UnknownPlace if a store has no such place."""
+    if not is_number(place, 0, store.size - 1):
+        raise UnknownPlace("the store has no such place")
+
+
 def has_door(store, door):
     """Tell whether a store has a door of this number."""
     return is_number(door, 0, len(store) - 1)
@@ -171,6 +176,12 @@ def check_door(store, door):
 def warmth_of(store, doors):
     """Return the sum of the warmth of some doors."""
     return sum([store.doors[door][0] for door in doors])
+
+
+def warmth_in_turn(store, doors):
+    """Return the warmth of doors opened one after another, each one open until another one is opened."""
+    opened = [door for at, door in enumerate(doors) if at == 0 or doors[at - 1] != door]
+    return warmth_of(store, opened)
 
 
 def place_of(store, layout, name):

@@ -4,7 +4,7 @@ from heapq import heappop, heappush
 
 from coldcrates.deeds import exchanged
 from coldcrates.errors import InvalidNames, InvalidPairs
-from coldcrates.stores import all_layouts, arrangements, check_layout, warmth_of
+from coldcrates.stores import all_layouts, arrangements, check_layout, warmth_in_turn, warmth_of
 
 
 def takings(store, layout, names, pairs):
@@ -40,9 +40,7 @@ def keeps_pairs(order, pairs):
 
 def opening_warmth(store, layout, order):
     """Return the warmth of all openings if crates are taken out in this order."""
-    doors = [store.door_of(layout.index(name)) for name in order]
-    opened = [door for at, door in enumerate(doors) if at == 0 or doors[at - 1] != door]
-    return warmth_of(store, opened)
+    return warmth_in_turn(store, [store.door_of(layout.index(name)) for name in order])
 
 
 def least_steps(store, layout, goal):

@@ -84,6 +84,67 @@ raises InvalidLog(index=1)
 >>> warmths(store, 1, (0, 2), 1)
 raises InvalidDay(index=1)
 """,
+    """
+>>> from coldcrates.speaking import first_to_know, needed_doors, spoken
+>>> from coldcrates.stores import Store
+>>> store = Store(((5, 2), (3, 1)), ("fig",))
+>>> rows = ((1,), ())
+>>> [spoken(store, ("fig", None, None), "fig", rows), spoken(store, (None, None, "fig"), "fig", rows), first_to_know(store, (None, None, "fig"), "fig", rows), needed_doors(store, ("fig", None, None), "fig", rows, 1)]
+[((False, False, False, False), 2), ((True, True, True, True), 1), (0, 0), (0,)]
+""",
+    """
+>>> from coldcrates.speaking import spoken
+>>> from coldcrates.stores import Store
+>>> store = Store(((5, 2), (3, 1)), ("fig", "plum"))
+>>> spoken(store, ("fig", "plum", None), "fig", ((0,), (2,)))
+raises InvalidRows(index=1)
+""",
+    """
+>>> from coldcrates.plans import least_fixed, least_plan, worth_moving
+>>> from coldcrates.stores import Store
+>>> store = Store(((5, 2), (3, 1)), ("fig", "plum"))
+>>> plan = (("in", "fig"), ("in", "plum"), ("out", "fig"))
+>>> [least_plan(store, plan), least_fixed(store, plan), worth_moving(store, plan)]
+[(5, (0, 1, 0)), (5, (0, 1, 0)), 0]
+""",
+    """
+>>> from coldcrates.plans import least_plan
+>>> from coldcrates.stores import Store
+>>> store = Store(((5, 2), (3, 1)), ("fig", "plum"))
+>>> least_plan(store, (("in", "fig"), ("out", "plum")))
+raises InvalidPlan(index=1)
+""",
+    """
+>>> from coldcrates.lives import Live
+>>> from coldcrates.stores import Store
+>>> store = Store(((5, 2), (3, 1)), ("fig", "plum"))
+>>> live = Live(store, ("plum", None, "fig"))
+>>> told = live.apply_all([("look", 0), ("put", "plum", 1), ("exchange", "fig", "plum"), ("shut",), ("keep_as", "x")])
+>>> [told, live.layout_now, live.warmth_now, live.day_warmths, live.undo(), live.undo(), live.warmth_now]
+[[('plum', None), 0, True, 18, False], (None, 'fig', 'plum'), 0, [18], True, True, 18]
+""",
+    """
+>>> from coldcrates.lives import Live
+>>> from coldcrates.stores import Store
+>>> store = Store(((5, 2), (3, 1)), ("fig", "plum"))
+>>> Live(store, ("plum", None, "fig")).put("fig", 0)
+raises TakenPlace()
+""",
+    """
+>>> from coldcrates.keepers import Keeper
+>>> from coldcrates.stores import Store
+>>> store = Store(((5, 2), (3, 1)), ("fig", "plum"))
+>>> keeper = Keeper(store, [("open", 0, ("plum", None))])
+>>> [keeper.layouts_left, keeper.next_doors(), keeper.saw((0,)), keeper.could_have_moved(), keeper.saw((1, 0)), keeper.layouts_left]
+[(('plum', None, 'fig'),), [(0,), (1, 0)], 1, ['plum'], 1, (('fig', 'plum', None),)]
+""",
+    """
+>>> from coldcrates.keepers import Keeper
+>>> from coldcrates.stores import Store
+>>> store = Store(((5, 2), (3, 1)), ("fig", "plum"))
+>>> Keeper(store, []).saw((0, 0))
+raises InvalidSight()
+""",
 ]
 
 

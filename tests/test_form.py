@@ -14,6 +14,17 @@ INTERFACE = {
     "taking": ["takings", "least_steps", "is_sorted", "least_sorting"],
     "hands": ["deeds_between", "who_could", "least_habits"],
     "hours": ["warmths", "first_thaw", "hours_for", "best_openings"],
+    "speaking": ["spoken", "first_to_know", "needed_doors"],
+    "plans": ["least_plan", "least_fixed", "worth_moving"],
+    "lives": ["Live", "Trial"],
+    "keepers": ["Keeper"],
+}
+METHODS = {
+    ("stores", "Store"): ["door_of", "places_of", "doors", "crates", "size", "__len__", "__eq__"],
+    ("lives", "Live"): ["look", "put", "exchange", "shut", "keep_as", "fetch", "undo", "redo", "apply_all", "tried_out",
+                        "replay", "layout_now", "warmth_now", "day_warmths", "kept_under", "history"],
+    ("lives", "Trial"): ["hold", "__enter__", "__exit__"],
+    ("keepers", "Keeper"): ["saw", "inspected", "could_have_moved", "next_doors", "layouts_left", "seen_so_far"],
 }
 
 
@@ -50,6 +61,13 @@ class FormTest(unittest.TestCase):
             defined = [node.name for node in self.trees[file + ".py"].body
                        if isinstance(node, ast.FunctionDef | ast.ClassDef)]
             self.assertLessEqual(set(names), set(defined))
+
+    def test_methods_are_defined_in_their_class(self):
+        for (file, name), methods in METHODS.items():
+            classes = [node for node in self.trees[file + ".py"].body
+                       if isinstance(node, ast.ClassDef) and node.name == name]
+            defined = [node.name for node in classes[0].body if isinstance(node, ast.FunctionDef)]
+            self.assertLessEqual(set(methods), set(defined))
 
 
 if __name__ == "__main__":
