@@ -1,9 +1,11 @@
-"""What numbers and words are."""
+"""What numbers, words and numerals are."""
 
 from coldcrates.errors import InvalidNumber
 
 LETTERS = "abcdefghijklmnopqrstuvwxyz"
 LONGEST_WORD = 8
+DIGITS = "0123456789"
+MOST_DIGITS = 2
 
 
 def is_number(value, low, high):
@@ -23,3 +25,11 @@ def is_word(value):
     if not isinstance(value, str) or not 1 <= len(value) <= LONGEST_WORD:
         return False
     return all([letter in LETTERS for letter in value])
+
+
+def is_numeral(word):
+    """Tell whether a text is a number of one or two digits without needless zeros."""
+    # Other scripts have digits, too, which isdigit would take.
+    if not 1 <= len(word) <= MOST_DIGITS or not all([digit in DIGITS for digit in word]):
+        return False
+    return word == "0" or word[0] != "0"

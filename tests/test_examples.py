@@ -145,6 +145,53 @@ raises TakenPlace()
 >>> Keeper(store, []).saw((0, 0))
 raises InvalidSight()
 """,
+    """
+>>> from coldcrates.stores import Store
+>>> from coldcrates.tables import shelf, table
+>>> store = Store(((5, 2), (3, 1)), ("fig", "plum"))
+>>> [table(store, [("open", 1, ("fig",))]), shelf(store, ("plum", None, "fig"))]
+['fig ..|#\\nplum ++|.', '0: plum -\\n1: fig']
+""",
+    """
+>>> from coldcrates.notation import format_store, parse_store
+>>> from coldcrates.stores import Store
+>>> store = Store(((5, 2), (3, 1)), ("fig", "plum"))
+>>> [format_store(store), parse_store(format_store(store)) == store]
+['door 5 2\\ndoor 3 1\\ncrates fig plum', True]
+""",
+    """
+>>> from coldcrates.notation import parse_store
+>>> parse_store("door 5 2\\ncrates plum fig")
+raises InvalidText(row=1, word=2)
+""",
+    """
+>>> from coldcrates.codec import decode_store, encode_store
+>>> from coldcrates.stores import Store
+>>> values = encode_store(Store(((9, 2),), ("fig",)))
+>>> [values, decode_store(values).doors]
+[[71, 1, 9, 2, 1, 3, 6, 9, 7, 96], ((9, 2),)]
+""",
+    """
+>>> from coldcrates.codec import decode_store
+>>> decode_store([71, 5])
+raises DecodeError(offset=1)
+""",
+    """
+>>> from coldcrates.scripts import run_script
+>>> from coldcrates.stores import Store
+>>> store = Store(((5, 2), (3, 1)), ("fig", "plum"))
+>>> lines = ["look 0", "when fig 1", "exchange fig plum", "end", "repeat 2", "put plum 1", "put plum 2", "end", "where plum", "shut"]
+>>> live, output = run_script(store, ("plum", None, "fig"), "\\n".join(lines))
+>>> [live.layout_now, output, len(live.history)]
+[('fig', None, 'plum'), ['plum -', '2', '45'], 7]
+""",
+    """
+>>> from coldcrates.scripts import run_script
+>>> from coldcrates.stores import Store
+>>> store = Store(((5, 2), (3, 1)), ("fig", "plum"))
+>>> run_script(store, ("plum", None, "fig"), "look 2")
+raises ExecutionFailed(row=0)
+""",
 ]
 
 

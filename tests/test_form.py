@@ -18,6 +18,10 @@ INTERFACE = {
     "plans": ["least_plan", "least_fixed", "worth_moving"],
     "lives": ["Live", "Trial"],
     "keepers": ["Keeper"],
+    "tables": ["table", "shelf"],
+    "notation": ["format_store", "parse_store"],
+    "codec": ["encode_store", "decode_store"],
+    "scripts": ["run_script"],
 }
 METHODS = {
     ("stores", "Store"): ["door_of", "places_of", "doors", "crates", "size", "__len__", "__eq__"],
